@@ -1,0 +1,1 @@
+"""Spaceturns: numbers of four parts, and turns of space, reckoned with whole numbers."""
