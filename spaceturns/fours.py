@@ -1,5 +1,7 @@
 """Fours: tuples of four whole numbers, all even or all odd, that stand for the number with the halves as parts."""
 
+NOUGHT = (0, 0, 0, 0)
+
 
 def is_whole(thing):
     # Python counts True and False as ints, the document doesn't.

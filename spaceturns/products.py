@@ -1,5 +1,7 @@
 """Products and sizes of fours, and the twenty-four fours of size 1."""
 
+ONE = (2, 0, 0, 0)
+
 
 def plain_product(one, other):
     a, b, c, d = one
@@ -38,7 +40,7 @@ def ones():
 
 
 def product_of(fours):
-    reached = (2, 0, 0, 0)
+    reached = ONE
     for four in fours:
         reached = product(reached, four)
     return reached

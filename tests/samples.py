@@ -19,3 +19,10 @@ MIXED = [(2, -4, 0, 6), (1, -3, 5, 7), (10, 12, -14, 8), (-11, 13, 3, -101), (6,
 
 FOURS = SMALL + MIXED + LONG
 FEWER = SMALL[::7] + MIXED + LONG
+
+NOUGHT, ONE = (0, 0, 0, 0), (2, 0, 0, 0)
+SIDES = ("left", "right")
+PRIMES = [number for number in range(2, 98) if all(number % lesser for lesser in range(2, number))]
+
+# Texts that are near a side, and none.
+NO_SIDES = ["", " ", "Left", "RIGHT", "left ", " right", "lef", "leftright", "l", "up", "both", "0", "None"]
