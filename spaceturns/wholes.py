@@ -1,5 +1,7 @@
 """What several modules ask of whole numbers."""
 
+from spaceturns.errors import Nought
+
 PRIMES = (2, 3, 5, 7, 11, 13, 17, 19, 23, 29, 31, 37, 41, 43, 47, 53, 59, 61, 67, 71, 73, 79, 83, 89, 97)
 
 
@@ -17,3 +19,21 @@ def shared_by(one, other):
         one = other
         other = rest
     return one
+
+
+def shortened(numbers, divisor):
+    return tuple([number // divisor for number in numbers])
+
+
+# The row as a turn's number and an axis are told: no common divisor above 1, the first one that is not 0 above 0.
+def upright(numbers):
+    common = common_divisor(numbers)
+    if common == 0:
+        raise Nought("a turn or an axis of noughts alone")
+    leading = [number for number in numbers if number != 0][0]
+    return shortened(numbers, common if leading > 0 else -common)
+
+
+# The products place by place, added up.
+def added_products(one, other):
+    return sum([mine * yours for mine, yours in zip(one, other)])
