@@ -4,7 +4,7 @@ from spaceturns.errors import NoText
 from spaceturns.fours import opposite
 from spaceturns.products import other_signed, plain_product
 from spaceturns.tables import place_by, table_of
-from spaceturns.texts import whole_read
+from spaceturns.texts import row_text, whole_read
 from spaceturns.wholes import upright
 
 WORDS = {"turn": 4, "half": 3, "mirror": 3}
@@ -27,7 +27,7 @@ class Deed:
         return self.fractions == other.table()
 
     def told(self):
-        return " ".join([self.word] + [str(number) for number in self.row])
+        return self.word + " " + row_text(self.row)
 
 
 class Turn(Deed):

@@ -1,9 +1,13 @@
-"""Fours written as texts, and read back from them."""
+"""Fours and whole numbers written as texts, and read back from them."""
 
 from spaceturns.errors import NoText
 
 FIGURES = "0123456789"
 MOST_FIGURES = 40
+
+
+def row_text(numbers):
+    return " ".join([str(number) for number in numbers])
 
 
 def four_text(four):
@@ -52,9 +56,13 @@ def odd_or_none(number):
 
 # A whole word stands doubled in the four, and it is there that its figures are counted.
 def doubled_or_none(number):
-    if number is None or len(str(abs(number * 2))) > MOST_FIGURES:
+    if number is None or has_too_many_figures(number * 2):
         return None
     return number * 2
+
+
+def has_too_many_figures(number):
+    return len(str(abs(number))) > MOST_FIGURES
 
 
 # None where the word writes no whole number of at most forty figures.

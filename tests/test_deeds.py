@@ -219,8 +219,8 @@ class DeedRead(unittest.TestCase):
             self.assertEqual(self.no_text_at(text), 0)
 
     def test_words_that_write_no_whole_number(self):
-        for word in ("", "x", "+1", "01", "-0", "00", "1.0", "1/2", "2/2", "--1", "-", "1_0", "0x1", "1e3", "\t1", "1\n",
-                     "half", "1,", "one", "-01", "1-"):
+        for word in ("", "x", "+1", "01", "-0", "00", "1.0", "1/2", "2/2", "--1", "-", "1_0", "0x1", "1e3", "\t1",
+                     "1\n", "half", "1,", "one", "-01", "1-"):
             for at in (1, 2, 3, 4):
                 words = ["turn", "1", "2", "-3", "4"]
                 words[at] = word
